@@ -1,0 +1,1 @@
+"""Machines of bits that keep their wishes, and why."""
