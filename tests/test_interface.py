@@ -1,0 +1,62 @@
+"""The interface: names, arguments, defaults, and methods that stand in the class itself."""
+
+import inspect
+import unittest
+
+from keptclauses import clauses, machines, rows, runs, solver, wishes
+
+FUNCTIONS = {
+    clauses.is_clause: "(thing, many=60)",
+    clauses.clause_of: "(signs)",
+    clauses.holds: "(clause, filling)",
+    clauses.within: "(one, other)",
+    clauses.met: "(one, other, thing)",
+    rows.row_clauses: "(clauses, rows)",
+    rows.lets_rows: "(clauses, rows, *, end=())",
+    solver.Solver: "(many)",
+    machines.Machine: "(boxes, inputs, gates, nexts, *, starts=(), promises=())",
+    runs.is_run: "(machine, thing)",
+    runs.stands: "(machine, run)",
+    runs.fillings: "(machine, run)",
+    runs.wave: "(machine, run)",
+    runs.told_on: "(machine, run, words)",
+    runs.cut: "(machine, run, beats)",
+    wishes.is_wish: "(machine, thing)",
+    wishes.harms: "(machine, wish, thing)",
+}
+METHODS = {
+    solver.Solver: {
+        "put": "(self, clause)", "back": "(self, many=1)", "ask": "(self, *, under=())", "clauses": "(self)",
+        "many": "(self)",
+    },
+    machines.Machine: {
+        "boxes": "(self)", "inputs": "(self)", "gates": "(self)", "nexts": "(self)", "starts": "(self)",
+        "promises": "(self)", "filling": "(self, stand, word)", "behind": "(self, stand, word)",
+        "beginnings": "(self)", "words": "(self)", "is_word": "(self, thing)",
+    },
+}
+
+
+def arguments(function):
+    """The arguments as they are handed in, without what may be written beside them."""
+    told = inspect.signature(function)
+    bare = [one.replace(annotation=one.empty) for one in told.parameters.values()]
+    return str(told.replace(parameters=bare, return_annotation=told.empty))
+
+
+class TestInterface(unittest.TestCase):
+    def test_functions_and_classes(self):
+        for function, due in FUNCTIONS.items():
+            self.assertEqual(arguments(function), due, function)
+
+    def test_methods_stand_in_the_class_itself(self):
+        for owner, methods in METHODS.items():
+            self.assertIn("__len__", vars(owner))
+            self.assertIn("__eq__", vars(owner))
+            for name, due in methods.items():
+                self.assertIn(name, vars(owner))
+                self.assertEqual(arguments(vars(owner)[name]), due, name)
+
+
+if __name__ == "__main__":
+    unittest.main()
