@@ -40,6 +40,11 @@ def within(one, other):
     return all([sign in other for sign in one])
 
 
+def without(clause, sign):
+    """The clause without a sign."""
+    return tuple([other for other in clause if other != sign])
+
+
 def meeting(one, other, thing):
     """What two clauses meet in, or None where they don't."""
     if not is_number(thing, 1, MOST_THINGS) or thing not in one or -thing not in other:

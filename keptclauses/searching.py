@@ -2,7 +2,7 @@
 
 
 class Search:
-    """One search, begun anew for each ask, so that no answer hangs on what was asked before.
+    """A search over some clauses; a solver begins one for each ask, so no answer hangs on what was asked before.
 
     A clause is kept as a mask with one bit for each sign, so that one step tells which of its signs are left.
     The signs that were said stand on a trail; a mark on it begins each level, with the sign that was tried there.
@@ -22,6 +22,8 @@ class Search:
         self.marks = []
         self.levels = [0] * (many + 1)
         self.reasons = [None] * (many + 1)
+        self.is_new = True
+        self.broken = None
         for clause in clauses:
             self.keep(clause)
 
@@ -89,9 +91,15 @@ class Search:
         return None
 
     def begin(self):
-        """Say what follows of itself; tell the number of a clause that has no sign left, or None."""
-        number = self.looked_at(list(range(len(self.masks))))
-        return self.spread() if number is None else number
+        """Take back all tries and say what follows without any; tell a clause that has no sign left, or None."""
+        if self.marks:
+            self.unsay(0)
+        if self.is_new:
+            self.is_new = False
+            self.broken = self.looked_at(list(range(len(self.masks))))
+        if self.broken is None:
+            self.broken = self.spread()
+        return self.broken
 
     def tried(self, sign):
         """Try a sign and say what follows; tell the number of a clause that has no sign left, or None."""
@@ -155,25 +163,25 @@ class Search:
             if reason is not None and mask & self.bits[-sign]:
                 mask = self.stepped(mask, sign)
                 steps.append((sign, reason))
-        last = len(self.masks)
-        self.chains[last] = (number, steps)
         some = [sign for sign in under if mask & self.bits[-sign]]
-        return "no", some, rows_to(self.chains, last)
+        return "no", some, rows_to(self.chains, (number, steps))
 
     def least(self):
         """The filling, once all things are filled."""
         return tuple([self.said & self.bits[thing] != 0 for thing in range(1, self.most + 1)])
 
 
-def needed(chains, last):
-    """The numbers of the clauses out of which the chain with the number last comes, itself among them, rising."""
-    found = {last: True}
-    for number in sorted(chains, reverse=True):
-        if number in found:
-            start, steps = chains[number]
-            found[start] = True
-            for sign, reason in steps:
-                found[reason] = True
+def needed(chains, chain):
+    """The numbers of all clauses out of which a chain comes, rising."""
+    found = {}
+    todo = [chain]
+    while todo:
+        start, steps = todo.pop()
+        for number in [start] + [reason for sign, reason in steps]:
+            if number not in found:
+                found[number] = True
+                if number in chains:
+                    todo.append(chains[number])
     return sorted(found)
 
 
@@ -191,25 +199,27 @@ def chain_rows(chain, places, at):
     return rows
 
 
-def rows_to(chains, last):
-    """Rows whose last clause is that of the chain with the number last."""
+def rows_to(chains, chain):
+    """Rows whose last clause is that of a chain."""
     rows = []
     places = {}
-    for number in needed(chains, last):
+    for number in needed(chains, chain):
         if number in chains:
             rows.extend(chain_rows(chains[number], places, len(rows)))
         else:
             rows.append(("told", number))
         places[number] = len(rows) - 1
-    return rows
+    # A learned clause has a higher number than those it comes out of: so a chain without steps ends with its start.
+    return rows + chain_rows(chain, places, len(rows))
 
 
-def searched(many, clauses, under):
-    """The answer of a solver: the least filling under some signs, or rows against it."""
-    search = Search(many, clauses)
+def answered(search, under):
+    """The answer to an ask under some signs; what was learned serves the next ask of the same search."""
     number = search.begin()
     while True:
         if number is not None:
+            if not search.marks:
+                search.broken = number
             if search.is_bound(under):
                 return search.refusal(number, under)
             number = search.turned(number)
@@ -220,3 +230,8 @@ def searched(many, clauses, under):
         if search.denies(sign):
             return search.refusal(search.reasons[abs(sign)], under)
         number = search.tried(sign)
+
+
+def searched(many, clauses, under):
+    """The answer of a solver: the least filling under some signs, or rows against it."""
+    return answered(Search(many, clauses), under)

@@ -16,6 +16,13 @@ def is_wish(machine, thing):
     return WISH_SIGNS.get(word) == len(signs) and all([is_sign(sign, len(machine)) for sign in signs])
 
 
+def wish_sign(machine, wish, word):
+    """The sign of a wish of that word alone, always or again."""
+    if not is_wish(machine, wish) or wish[0] != word:
+        raise NoWish("this is no such wish for the machine")
+    return wish[1]
+
+
 def is_round(machine, thing):
     """Whether it is a round: a run, and from which beat on it goes on without end."""
     if not isinstance(thing, tuple) or len(thing) != 3 or not is_run(machine, thing[:2]):

@@ -3,7 +3,7 @@
 import inspect
 import unittest
 
-from keptclauses import clauses, machines, rows, runs, solver, wishes
+from keptclauses import beats, clauses, failing, layers, machines, papers, rows, runs, solver, wishes
 
 FUNCTIONS = {
     clauses.is_clause: "(thing, many=60)",
@@ -23,6 +23,14 @@ FUNCTIONS = {
     runs.cut: "(machine, run, beats)",
     wishes.is_wish: "(machine, thing)",
     wishes.harms: "(machine, wish, thing)",
+    beats.beat_clauses: "(machine)",
+    beats.things_of: "(machine)",
+    beats.clause_behind: "(machine, clause)",
+    beats.signs_of: "(stand)",
+    failing.fails: "(machine, wish, clauses)",
+    papers.lets_paper: "(machine, wish, thing)",
+    layers.lets_layers: "(machine, wish, thing)",
+    layers.Layers: "(machine, wish)",
 }
 METHODS = {
     solver.Solver: {
@@ -34,6 +42,7 @@ METHODS = {
         "promises": "(self)", "filling": "(self, stand, word)", "behind": "(self, stand, word)",
         "beginnings": "(self)", "words": "(self)", "is_word": "(self, thing)",
     },
+    layers.Layers: {"deeper": "(self)", "paper": "(self)", "layers": "(self)"},
 }
 
 
