@@ -24,11 +24,12 @@ def leading_into(table, stands):
 
 def thinned(table, clause, order, wanted):
     """The clause without the signs, tried in an order, that it doesn't need to hold at all wanted stands."""
+    told = clause
     for sign in order:
-        less = without(clause, sign)
+        less = without(told, sign)
         if not wanted & ~table.holding(less):
-            clause = less
-    return clause
+            told = less
+    return told
 
 
 def clauses_around(table, number, wanted):

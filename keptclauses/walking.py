@@ -57,4 +57,4 @@ def words_along(table, way):
 def harming_run(table, sign, way):
     """The run that goes a way to a stand by which harm can come, and does come."""
     word = table.lacking_word(table.where[sign], way[-1])
-    return table.stand(way[0]), [*words_along(table, way), table.coming[word]]
+    return table.stand(way[0]), words_along(table, way) + [table.coming[word]]

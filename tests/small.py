@@ -129,12 +129,14 @@ class Walked:
 
     def lacks(self, sign, stands):
         """How many beats in a row, at most, lack the sign from one of these stands; None where they never end."""
-        now = set(stands)
-        for beats in range(len(self.stands) + 1):
-            now = {self.behind(stand, word) for stand in now for word in self.words if not self.says(stand, word, sign)}
-            if not now:
-                return beats
-        return None
+        now, seen = frozenset(stands), set()
+        while now:
+            if now in seen:
+                return None
+            seen.add(now)
+            now = frozenset(
+                self.behind(stand, word) for stand in now for word in self.words if not self.says(stand, word, sign))
+        return len(seen) - 1
 
 
 def beat_list(machine):

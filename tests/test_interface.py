@@ -3,7 +3,9 @@
 import inspect
 import unittest
 
-from keptclauses import beats, clauses, failing, layers, machines, papers, rows, runs, solver, wishes
+from keptclauses import (
+    again, always, beats, clauses, failing, layers, lean, machines, papers, ranks, rows, runs, solver, still, wishes,
+)
 
 FUNCTIONS = {
     clauses.is_clause: "(thing, many=60)",
@@ -31,6 +33,12 @@ FUNCTIONS = {
     papers.lets_paper: "(machine, wish, thing)",
     layers.lets_layers: "(machine, wish, thing)",
     layers.Layers: "(machine, wish)",
+    lean.lean: "(machine, wish, clauses)",
+    lean.why_lean: "(machine, wish, clauses)",
+    always.always: "(machine, wish, *, first=())",
+    ranks.lets_again: "(machine, wish, thing)",
+    again.again: "(machine, wish)",
+    still.still: "(machine, clauses)",
 }
 METHODS = {
     solver.Solver: {
