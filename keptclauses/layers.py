@@ -64,6 +64,8 @@ class Layers:
         self.made_of = machine
         self.table = Table(machine)
         self.walk = Walk(self.table)
+        # Without an aim it goes on to its end: what never is come to is known from the first layer on.
+        self.walk.until(0)
         self.bar = self.table.barring(self.sign)
         self.last_layers = {clause: 0 for clause in start_clauses(machine)}
         self.resting = [start_clauses(machine)]
@@ -108,7 +110,7 @@ class Layers:
     def cleared(self):
         """Put clauses until the last layer bars harm; tell a run as a paper where one is come to."""
         last = len(self.stands_of) - 1
-        harmed = self.walk.seen() & ~self.bar
+        harmed = self.walk.within(last) & ~self.bar
         if harmed:
             return "run", harming_run(self.table, self.sign, self.walk.way_to(lowest(harmed)))
         while self.stands_of[last] & ~self.bar:
@@ -130,7 +132,7 @@ class Layers:
     def chosen(self, number):
         """A clause that shuts a stand out, of few signs, and that can go far through the layers."""
         clause = shut_clause(self.table, number)
-        return thinned(self.table, clause, clause, self.walk.far_from(number))
+        return thinned(self.table, clause, clause, self.walk.kept_from(number, len(self.stands_of) - 1))
 
     def put(self, number, clause):
         """Put a clause to a layer and to those of lower numbers, but 0."""
@@ -144,7 +146,6 @@ class Layers:
 
     def push(self):
         """A new last layer comes, and clauses go to the layer behind theirs where they hold behind each beat."""
-        self.walk.step()
         self.stands_of.append(self.table.everywhere)
         self.resting.append([])
         for number in range(len(self.stands_of) - 1):

@@ -4,11 +4,12 @@ from keptclauses.tables import lowest, places
 
 
 class Walk:
-    """The stands that are come to, beat by beat, each with the stand from which it was come to first."""
+    """The stands that are come to, beat by beat: each by its least beats, and from where it was come to first."""
 
     def __init__(self, table):
         self.table = table
         self.came_from = {}
+        self.least_beats = {}
         self.newest = table.begun()
         self.within_beats = [self.newest]
 
@@ -25,13 +26,22 @@ class Walk:
                 if not (seen | fresh) >> end & 1:
                     fresh |= 1 << end
                     self.came_from[end] = number
+                    self.least_beats[end] = len(self.within_beats)
         self.newest = fresh
         self.within_beats.append(seen | fresh)
 
-    def far_from(self, number):
-        """All stands that are come to within as many beats as can be without coming to that one."""
-        beats = len(self.way_to(number)) - 1 if self.within_beats[-1] >> number & 1 else len(self.within_beats)
-        return self.within_beats[beats - 1]
+    def within(self, beats):
+        """All stands that are come to within so many beats, once the walk is at its end."""
+        return self.within_beats[min(beats, len(self.within_beats) - 1)]
+
+    def kept_from(self, number, beats):
+        """All stands that are come to within so many beats, or as many as can be without coming to that one.
+
+        Of one that never is come to: all stands that ever are.
+        """
+        if number not in self.least_beats:
+            return self.seen()
+        return self.within(min(beats, self.least_beats[number] - 1))
 
     def until(self, aim):
         """Go on until a stand of these is come to, and tell the least of the first; None where none ever is."""
