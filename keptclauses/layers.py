@@ -1,5 +1,6 @@
 """Layers of clauses, grown beat by beat until they keep themselves or a run harms."""
 
+from keptclauses.copying import copied
 from keptclauses.covering import shut_clause, thinned
 from keptclauses.papers import are_clauses
 from keptclauses.proving import kept_paper
@@ -40,17 +41,6 @@ def lets_layers(machine, wish, thing):
     if not all([grows(table, layer, ahead) for ahead, layer in zip(thing, thing[1:])]):
         return False
     return not any([table.holding_all(layer) & ~bar for layer in thing[:-1]])
-
-
-def copied(paper):
-    """A paper of what always holds, all lists of which are new."""
-    if paper is None:
-        return None
-    if paper[0] == "run":
-        stand, words = paper[1]
-        return "run", (stand, list(words))
-    word, clauses, beats, bar = paper
-    return word, list(clauses), [list(rows) for rows in beats], list(bar)
 
 
 class Layers:

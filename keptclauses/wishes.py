@@ -16,6 +16,12 @@ def is_wish(machine, thing):
     return WISH_SIGNS.get(word) == len(signs) and all([is_sign(sign, len(machine)) for sign in signs])
 
 
+def check_wish(machine, wish):
+    """Refuse what is no wish for the machine."""
+    if not is_wish(machine, wish):
+        raise NoWish("this is no wish for the machine")
+
+
 def wish_sign(machine, wish, word):
     """The sign of a wish of that word alone, always or again."""
     if not is_wish(machine, wish) or wish[0] != word:
@@ -63,8 +69,7 @@ def round_harms(machine, wish, ring):
 
 def harms(machine, wish, thing):
     """Whether it is a run, or a round, that harms the wish."""
-    if not is_wish(machine, wish):
-        raise NoWish("this is no wish for the machine")
+    check_wish(machine, wish)
     if wish[0] == "always":
         return is_run(machine, thing) and run_harms(machine, wish[1], thing)
     return is_round(machine, thing) and round_harms(machine, wish, thing)

@@ -4,7 +4,8 @@ import inspect
 import unittest
 
 from keptclauses import (
-    again, always, beats, clauses, failing, layers, lean, machines, papers, ranks, rows, runs, solver, still, wishes,
+    again, always, answers, beats, clauses, failing, house, layers, lean, machines, papers, ranks, rows, runs, solver, still,
+    watching, wishes,
 )
 
 FUNCTIONS = {
@@ -38,7 +39,11 @@ FUNCTIONS = {
     always.always: "(machine, wish, *, first=())",
     ranks.lets_again: "(machine, wish, thing)",
     again.again: "(machine, wish)",
+    watching.watched: "(machine, one, other)",
+    answers.answer: "(machine, wish)",
+    answers.lets_answer: "(machine, wish, thing)",
     still.still: "(machine, clauses)",
+    house.House: "(machine)",
 }
 METHODS = {
     solver.Solver: {
@@ -51,6 +56,11 @@ METHODS = {
         "beginnings": "(self)", "words": "(self)", "is_word": "(self, thing)",
     },
     layers.Layers: {"deeper": "(self)", "paper": "(self)", "layers": "(self)"},
+    house.House: {
+        "wish": "(self, name, wish)", "drop": "(self, name)", "gate": "(self, number, gate)", "next": "(self, box, sign)",
+        "starts": "(self, signs)", "together": "(self, deeds)", "back": "(self, *, many=1)", "machine": "(self)",
+        "wishes": "(self)", "paper": "(self, name)", "used": "(self, name)", "words": "(self)", "twin": "(self)",
+    },
 }
 
 
