@@ -1,7 +1,7 @@
 """Clauses: what they are, where they hold, and what two of them meet in."""
 
 from keptclauses.errors import NoMeeting
-from keptclauses.kinds import MOST_THINGS, is_number, is_sign
+from keptclauses.kinds import MOST_THINGS, is_sign, is_whole
 
 
 def is_clause(thing, many=MOST_THINGS):
@@ -47,7 +47,7 @@ def without(clause, sign):
 
 def meeting(one, other, thing):
     """What two clauses meet in, or None where they don't."""
-    if not is_number(thing, 1, MOST_THINGS) or thing not in one or -thing not in other:
+    if not is_whole(thing) or thing < 1 or thing not in one or -thing not in other:
         return None
     # Where they are unlike in a further thing both its signs are left, and so there is no clause of these.
     return clause_of([sign for sign in one + other if abs(sign) != thing])

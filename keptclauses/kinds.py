@@ -3,10 +3,15 @@
 MOST_THINGS = 60
 
 
+def is_whole(thing):
+    """Whether it is a whole number."""
+    # Python counts True and False among its ints, the document doesn't count them among the whole numbers.
+    return isinstance(thing, int) and not isinstance(thing, bool)
+
+
 def is_number(thing, least, most):
     """Whether it is a whole number from least to most."""
-    # Python counts True and False among its ints, the document doesn't count them among the whole numbers.
-    return isinstance(thing, int) and not isinstance(thing, bool) and least <= thing <= most
+    return is_whole(thing) and least <= thing <= most
 
 
 def is_sign(thing, many):
