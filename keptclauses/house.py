@@ -13,7 +13,10 @@ MOST_WISHES = 8
 
 
 class Asking:
-    """A wish for a machine, whose paper is reckoned once, when it is asked for first."""
+    """A wish for a machine, whose paper is reckoned once, when it is asked for first.
+
+    The paper hangs on these two alone: so it is the same whatever a house was asked ahead, and however it came there.
+    """
 
     def __init__(self, machine, wish):
         self.of_machine = machine

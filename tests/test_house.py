@@ -378,7 +378,8 @@ class TestTogetherAndBack(HouseCase):
                     house.back(many=many)
                     del past[-many:]
                 self.assertEqual(seen(house), past[-1])
-            house.back(many=len(house)) if len(house) else None
+            if len(house):
+                house.back(many=len(house))
             self.assertEqual(seen(house), past[0])
 
 
