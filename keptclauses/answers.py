@@ -8,9 +8,16 @@ from keptclauses.watching import watched
 from keptclauses.wishes import check_wish, harms
 
 
+def kept_by(machine, wish):
+    """The machine that keeps the clauses of a wish's paper, and the sign that always holds or comes again there."""
+    if wish[0] == "behind":
+        return watched(machine, wish[1], wish[2])[:2]
+    return machine, wish[1]
+
+
 def behind_answer(machine, wish):
     """The paper of what must come behind something: that of the watched machine, but a round of the first one."""
-    made, sign, moved = watched(machine, wish[1], wish[2])
+    made, sign = kept_by(machine, wish)
     paper = again(made, ("again", sign))
     if paper[0] == "ranks":
         return paper
@@ -20,7 +27,7 @@ def behind_answer(machine, wish):
 
 def lets_behind(machine, wish, thing):
     """Whether it is a paper of what must come behind something."""
-    made, sign, moved = watched(machine, wish[1], wish[2])
+    made, sign = kept_by(machine, wish)
     if is_named(thing, "round", 2):
         return harms(machine, wish, thing[1])
     return lets_again(made, ("again", sign), thing)
@@ -49,8 +56,3 @@ def lets_answer(machine, wish, thing):
 def kept_of(paper):
     """The kept clauses of a paper, a list, empty where it is a run or a round."""
     return paper[1] if paper[0] in ("kept", "ranks") else []
-
-
-def clauses_machine(machine, wish):
-    """The machine of whose boxes the kept clauses of a wish's paper are."""
-    return watched(machine, wish[1], wish[2])[0] if wish[0] == "behind" else machine

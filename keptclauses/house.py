@@ -1,11 +1,12 @@
 """Houses: a machine that is changed, and wishes for it by names."""
 
-from keptclauses.answers import answer, clauses_machine, kept_of
+from keptclauses.answers import answer, kept_by, kept_of
 from keptclauses.copying import copied
 from keptclauses.errors import NoBox, NoChange, NoDeeds, NoGate, NoMachine, NoName, NoWish, TooMany
 from keptclauses.kinds import is_number
 from keptclauses.machines import Machine
 from keptclauses.names import is_name
+from keptclauses.serving import still_keep
 from keptclauses.still import still
 from keptclauses.wishes import check_wish
 
@@ -16,11 +17,13 @@ class Asking:
     """A wish for a machine, whose paper is reckoned once, when it is asked for first.
 
     The paper hangs on these two alone: so it is the same whatever a house was asked ahead, and however it came there.
+    Behind a change of the machine, elder is the same wish's asking for the machine as it was ahead of that; else None.
     """
 
-    def __init__(self, machine, wish):
+    def __init__(self, machine, wish, elder):
         self.of_machine = machine
         self.of_wish = wish
+        self.elder = elder
         self.known = None
 
     def reckoned(self):
@@ -29,9 +32,28 @@ class Asking:
             self.known = answer(self.of_machine, self.of_wish)
         return self.known
 
+    def still_serves(self, machine):
+        """Whether clauses that are known already keep the wish by a changed machine, too."""
+        if self.known is None or len(kept_of(self.known)) == 0:
+            return False
+        return still_keep(machine, self.of_wish, kept_of(self.known))
 
-# A house's state is a tuple: the machine; by names, the askings for it; and, for those of its wishes that stood ahead
-# of its last change, the askings for the machine as it was then. Nothing in a state is changed: a deed makes a new one.
+    def word(self):
+        """The word of the paper; where elder clauses still keep the wish no new paper is needed for that."""
+        if self.known is None and self.elder is not None and self.elder.still_serves(self.of_machine):
+            return self.elder.known[0]
+        return self.reckoned()[0]
+
+    def used(self):
+        """How many kept clauses of the elder paper still are kept."""
+        if self.elder is None:
+            return 0
+        clauses = kept_of(self.elder.reckoned())
+        return len(still(kept_by(self.of_machine, self.of_wish)[0], clauses))
+
+
+# A house's state is a tuple of its machine and a dict of the askings for it by their names. Nothing in a state is
+# changed: a deed makes a new one.
 
 
 def check_put(askings, name):
@@ -40,34 +62,29 @@ def check_put(askings, name):
         raise NoName("no wish was put by this name")
 
 
-def less(askings, name):
-    """All askings but that of a name."""
-    return {other: askings[other] for other in askings if other != name}
-
-
 def with_wish(state, name, wish):
     """The state behind the putting of a wish."""
-    machine, askings, elder = state
+    machine, askings = state
     if not is_name(name):
         raise NoName("a name has one to six small letters")
     check_wish(machine, wish)
     if name not in askings and len(askings) == MOST_WISHES:
         raise TooMany(MOST_WISHES + 1)
-    return machine, {**askings, name: Asking(machine, wish)}, less(elder, name)
+    return machine, {**askings, name: Asking(machine, wish, None)}
 
 
 def without_wish(state, name):
     """The state behind the dropping of a wish."""
-    machine, askings, elder = state
+    machine, askings = state
     check_put(askings, name)
-    return machine, less(askings, name), less(elder, name)
+    return machine, {other: askings[other] for other in askings if other != name}
 
 
 def with_machine(state, gates, nexts, starts):
     """The state behind a change of the machine."""
-    ahead, askings, elder = state
-    made = Machine(ahead.boxes(), ahead.inputs(), gates, nexts, starts=starts, promises=ahead.promises())
-    return made, {name: Asking(made, askings[name].of_wish) for name in askings}, askings
+    machine, askings = state
+    made = Machine(machine.boxes(), machine.inputs(), gates, nexts, starts=starts, promises=machine.promises())
+    return made, {name: Asking(made, askings[name].of_wish, askings[name]) for name in askings}
 
 
 def with_gate(state, number, gate):
@@ -120,7 +137,7 @@ class House:
     """A machine and wishes for it by names, changed by deeds that can be taken back."""
 
     def __init__(self, machine):
-        self.now = (machine, {}, {})
+        self.now = (machine, {})
         self.past = []
 
     def __len__(self):
@@ -187,17 +204,14 @@ class House:
 
     def used(self, name):
         """How many kept clauses of the paper ahead of the machine's last change still are kept."""
-        machine, askings, elder = self.now
+        askings = self.now[1]
         check_put(askings, name)
-        if name not in elder:
-            return 0
-        clauses = kept_of(elder[name].reckoned())
-        return len(still(clauses_machine(machine, askings[name].of_wish), clauses))
+        return askings[name].used()
 
     def words(self):
         """For each wish by its name the word of its paper."""
         askings = self.now[1]
-        return {name: askings[name].reckoned()[0] for name in askings}
+        return {name: askings[name].word() for name in askings}
 
     def twin(self):
         """A house that is as this one, and goes on by itself."""

@@ -3,6 +3,7 @@
 import copy
 import random
 import unittest
+import unittest.mock
 
 from keptclauses.answers import answer, lets_answer
 from keptclauses.errors import (
@@ -538,6 +539,49 @@ class TestUsed(HouseCase):
                 self.assertIs(lets_answer(house.machine(), wish, house.paper(name)), True)
                 several += used > 0
         self.assertGreater(several, 20)
+
+
+class TestElderClauses(HouseCase):
+    def reckonings(self, house):
+        """How many papers are reckoned for the words of a house."""
+        with unittest.mock.patch("keptclauses.house.answer", wraps=answer) as counted:
+            words = house.words()
+        self.assertEqual(words, {name: due_word(house.machine(), wish) for name, wish in house.wishes().items()})
+        return counted.call_count
+
+    def test_they_are_used_again_for_words(self):
+        house = House(Machine(2, 0, [("and", -1, -2)], [3, 2], starts=[-1, -2]))
+        for name, wish in (("a", ("always", -2)), ("b", ("again", 1)), ("c", ("behind", -1, 1))):
+            house.wish(name, wish)
+        self.assertEqual(self.reckonings(house), 3)
+        self.assertEqual(self.reckonings(house), 0)
+        house.gate(0, ("and", -2, -1))
+        self.assertEqual(self.reckonings(house), 0)
+        # Box 2 is each second time: no clause still is kept, but what must come does so from any stand.
+        house.back()
+        house.next(2, -2)
+        self.assertEqual(self.reckonings(house), 1)
+        self.assertEqual(house.words(), {"a": "run", "b": "ranks", "c": "ranks"})
+        # Box 1 stays as it is: some clauses still are kept, but they don't keep what must come.
+        house.back()
+        house.next(1, 1)
+        self.assertEqual(self.reckonings(house), 2)
+        self.assertEqual(house.words(), {"a": "kept", "b": "round", "c": "round"})
+
+    def test_the_words_are_those_of_houses_that_were_not_asked(self):
+        chance = random.Random(233)
+        served = 0
+        for machine in small_machines(234, 150):
+            house = House(machine)
+            for name in "abcdef":
+                sign, other = chance.choice(all_signs(machine)), chance.choice(all_signs(machine))
+                house.wish(name, chance.choice((("always", sign), ("again", sign), ("behind", sign, other))))
+            for turn in range(4):
+                for name in "abcdef":
+                    house.paper(name)
+                house.next(chance.randint(1, machine.boxes()), chance.choice(all_signs(machine)))
+                served += 6 - self.reckonings(house)
+        self.assertGreater(served, 100)
 
 
 class TestTooGreat(HouseCase):
